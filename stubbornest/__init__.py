@@ -1,0 +1,1 @@
+"""Stubbornest: how many tests find a table that never falls."""

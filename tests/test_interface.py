@@ -1,0 +1,94 @@
+"""Each function and class of the interface stands in its own module, with its parameters by their names."""
+
+import importlib
+import inspect
+import unittest
+
+FUNCTIONS = {
+    "kinds": ("is_integer(thing)", "is_number(thing)", "is_set(size, thing)", "bits(many)"),
+    "chartchecker": ("lets_chart(thing)",),
+    "benchkinds": (
+        "is_chart(thing)", "is_bench(thing)", "is_full(bench, thing)", "is_point(bench, thing)", "is_rule(top, thing)",
+    ),
+    "shapes": ("switch()", "dial()", "pick(many)", "ring(many)", "flat(many)", "ladder(many)"),
+    "charts": (
+        "height_of(chart)", "ranks_of(chart)", "place_of(chart, level)", "is_below(chart, one, other)",
+        "partners_of(chart, index, place)", "run_of(chart)",
+    ),
+    "turning": ("turned_chart(chart)", "turned(bench)"),
+    "benches": (
+        "height(bench)", "rank_of(bench, point)", "how_many_full(bench)", "is_under(bench, one, other)",
+        "whole(charts, top)", "points_of(bench)", "number_of(bench, point)", "lower_points(bench, point)",
+        "upper_points(bench, point)",
+    ),
+    "layers": (
+        "layers_of(bench)", "how_many(bench)", "window_of(bench, many)", "spread_of(bench, many)", "weight_of(bench)",
+    ),
+    "changes": (
+        "reordered(bench, order)", "cut_to(bench, low, high)", "grown(bench, chart)", "face_of(bench, slot, level)",
+        "beside(bench, many)",
+    ),
+    "benchtexts": ("chart_line(chart)", "bench_line(bench)"),
+    "benchreadings": ("read_chart(text)", "read_bench(text)"),
+    "walks": ("chain_of(bench, point)", "is_name(bench, thing)", "size_of(bench, name)"),
+    "members": (
+        "member_at(bench, name, place)", "members_of(bench, name)", "within(bench, name)", "next_up(bench, point)",
+        "next_down(bench, point)",
+    ),
+    "threes": (
+        "three_at(bench, name, place)", "inner_points(bench, name, place)", "partners_at(bench, name, place)",
+        "straight_places(bench, name)", "run_on(bench, name)",
+    ),
+    "runs": ("bench_run(bench)",),
+    "counts": ("chain_counts(bench)", "counts_within(bench)", "long_weight(bench)"),
+    "ranking": ("chain_number(bench, name)", "nth_chain(bench, size, number)"),
+    "listings": ("names_of(bench)", "names_by_size(bench)", "chains_of(bench)"),
+    "folding": ("folded(bench)", "folded_bench(bench)"),
+    "partpapers": ("part_paper(bench)",),
+    "partchecker": ("lets_parting(bench, many, thing)",),
+    "tablekinds": ("is_table(bench, thing)", "is_answer(bench, thing)", "is_known(bench, thing)"),
+    "tables": (
+        "grade_at(bench, table, point)", "tables_of(bench)", "lesser(bench, one, other)", "greater(bench, one, other)",
+        "rank_table(bench, grades)", "turned_table(bench, table)",
+    ),
+    "thresholds": ("threshold_table(bench, table, grade)", "stacked(bench, thresholds)"),
+}
+
+GENERATORS = ("chains_of", "tables_of")
+
+CLASSES = {
+    ("benchclasses", "Bench"): (
+        "__init__(self, bench)", "__len__(self)", "__iter__(self)", "__contains__(self, thing)", "__eq__(self, other)",
+        "told(self)", "cut(self, low, high)", "face(self, slot, level)", "grow(self, chart)",
+    ),
+    ("chainclasses", "Chain"): (
+        "__init__(self, bench, name)", "__len__(self)", "__contains__(self, thing)", "__eq__(self, other)",
+        "members(self)", "within(self)", "up(self, point)", "down(self, point)", "number(self)", "following(self)",
+        "partners(self, place)", "run(self)",
+    ),
+}
+
+
+def heading(name, value):
+    return name + str(inspect.signature(value))
+
+
+class Interface(unittest.TestCase):
+    def test_functions(self):
+        for module_name, headings in FUNCTIONS.items():
+            module = importlib.import_module("stubbornest." + module_name)
+            for wanted in headings:
+                name = wanted.partition("(")[0]
+                value = getattr(module, name)
+                self.assertEqual(heading(name, value), wanted)
+                self.assertEqual(value.__module__, module.__name__)
+                self.assertEqual(inspect.isgeneratorfunction(value), name in GENERATORS)
+
+    def test_classes(self):
+        for (module_name, class_name), headings in CLASSES.items():
+            value = getattr(importlib.import_module("stubbornest." + module_name), class_name)
+            self.assertEqual(value.__module__, "stubbornest." + module_name)
+            for wanted in headings:
+                name = wanted.partition("(")[0]
+                self.assertIn(name, vars(value))
+                self.assertEqual(heading(name, vars(value)[name]), wanted)
