@@ -1,7 +1,6 @@
 """The members of a chain, and the neighbours of a full point on its chain."""
 
 from stubbornest.benches import height
-from stubbornest.benchkinds import is_full
 from stubbornest.kinds import is_index
 from stubbornest.refusals import require
 from stubbornest.walks import chain_of, is_name, last_behind, size_of
@@ -32,7 +31,6 @@ def full_at(steps, place):
 
 def member_at(bench, name, place):
     """The full point at a place of the chain."""
-    require(is_name(bench, name), "name")
     require(is_index(size_of(bench, name), place), "place")
     return full_at(steps_of(bench, name), place)
 
@@ -57,13 +55,11 @@ def span_within(bench, size):
 
 def within(bench, name):
     """The pair (place of the first member that is a point of the bench, how many are)."""
-    require(is_name(bench, name), "name")
     return span_within(bench, size_of(bench, name))
 
 
 def next_up(bench, point):
     """The full point next above on the chain, None for the last member."""
-    require(is_full(bench, point), "point")
     name, place = chain_of(bench, point)
     if place + 1 == size_of(bench, name):
         return None
@@ -72,7 +68,6 @@ def next_up(bench, point):
 
 def next_down(bench, point):
     """The full point next below on the chain, None for the member at place 0."""
-    require(is_full(bench, point), "point")
     name, place = chain_of(bench, point)
     if place == 0:
         return None

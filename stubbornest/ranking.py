@@ -4,7 +4,7 @@ from stubbornest.counts import chain_counts
 from stubbornest.kinds import is_index, is_number
 from stubbornest.layers import with_slot
 from stubbornest.refusals import require
-from stubbornest.walks import is_name, last_behind, next_pairs, size_of
+from stubbornest.walks import last_behind, next_pairs, size_of
 
 
 def rests_of(bench):
@@ -32,7 +32,6 @@ def ways(rest, last, end):
 
 def chain_number(bench, name):
     """How many names of chains of the same size are less than the name."""
-    require(is_name(bench, name), "name")
     end = size_of(bench, name) - 1
     rests = rests_of(bench)
     less = 0

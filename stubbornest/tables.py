@@ -1,7 +1,6 @@
 """Tables: grades, all tables, the lesser and the greater of two, tables by ranks, turned tables."""
 
 from stubbornest.benches import masks_of, number_of, points_of, rank_of
-from stubbornest.benchkinds import is_point
 from stubbornest.charts import lies_under
 from stubbornest.kinds import are_indices
 from stubbornest.refusals import require
@@ -11,7 +10,6 @@ from stubbornest.tablekinds import is_table
 def grade_at(bench, table, point):
     """The grade of the table at the point."""
     require(is_table(bench, table), "table")
-    require(is_point(bench, point), "point")
     return table[number_of(bench, point)]
 
 

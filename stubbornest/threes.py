@@ -5,12 +5,11 @@ from stubbornest.charts import levels_between, longest_row
 from stubbornest.kinds import is_index
 from stubbornest.members import full_at, members_of, steps_of
 from stubbornest.refusals import require
-from stubbornest.walks import is_name, size_of, tracks_of, walk
+from stubbornest.walks import size_of, tracks_of, walk
 
 
 def require_middle(bench, name, place):
     """Refuses a name that is none, and a place that is not that of a middle member."""
-    require(is_name(bench, name), "name")
     require(is_index(size_of(bench, name) - 1, place) and place >= 1, "place")
 
 
@@ -53,7 +52,6 @@ def partners_at(bench, name, place):
 
 def straight_places(bench, name):
     """The set of the places of the middle members of all straight threes."""
-    require(is_name(bench, name), "name")
     tracks = tracks_of(bench)
     members = members_of(bench, name)
     size = len(members)
