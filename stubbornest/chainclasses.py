@@ -18,7 +18,7 @@ class Chain:
         self._name = name
 
     def __len__(self):
-        return len(range(size_of(self._bench, self._name)))
+        return len(list(range(size_of(self._bench, self._name))))
 
     def __contains__(self, thing):
         return is_full(self._bench, thing) and chain_of(self._bench, thing)[0] == self._name
