@@ -112,3 +112,13 @@ def direct_pairs(bench, points):
         for lower in directly_below(bench, point)
         if lower in numbers
     ]
+
+
+def sides_of(bench, points):
+    """The pair (numbers directly below, numbers directly above), each a list for each of these points."""
+    lowers = [[] for _ in points]
+    uppers = [[] for _ in points]
+    for lower, upper in direct_pairs(bench, points):
+        lowers[upper].append(lower)
+        uppers[lower].append(upper)
+    return lowers, uppers

@@ -3,7 +3,7 @@
 from stubbornest.chartchecker import lets_chart
 from stubbornest.charts import height_sum, rank_sum
 from stubbornest.errors import InvalidPaper
-from stubbornest.kinds import is_index, is_number
+from stubbornest.kinds import are_ascending, is_index, is_number
 from stubbornest.refusals import require
 
 WORDS = ("all", "each", "low", "yes")
@@ -52,6 +52,16 @@ def is_point(bench, thing):
     return is_full(bench, thing) and low <= rank_sum(charts, thing) <= high
 
 
+def are_points(bench, thing):
+    """Whether the thing is a tuple of points of the bench, in any sequence."""
+    return isinstance(thing, tuple) and all([is_point(bench, member) for member in thing])
+
+
+def is_point_set(bench, thing):
+    """Whether the thing is a set of points of the bench."""
+    return are_points(bench, thing) and are_ascending(thing)
+
+
 def is_rule(top, thing):
     """Whether the thing is a rule for this top."""
     require(is_top(top), "top")
@@ -61,3 +71,9 @@ def is_rule(top, thing):
     if not isinstance(word, str) or word not in WORDS or not is_number(wrongs):
         return False
     return word != "yes" or top == 1
+
+
+def is_some_rule(thing):
+    """Whether the thing is a rule for some top."""
+    # With the top 1 each of the four words may stand.
+    return is_rule(1, thing)

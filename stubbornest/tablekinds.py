@@ -3,7 +3,7 @@
 from stubbornest.benches import direct_pairs, masks_of, points_of
 from stubbornest.benchkinds import is_point
 from stubbornest.charts import lies_under
-from stubbornest.kinds import are_indices, is_index
+from stubbornest.kinds import are_ascending, are_indices, is_index
 
 
 def is_table(bench, thing):
@@ -23,12 +23,17 @@ def is_answer(bench, thing):
     return is_point(bench, point) and is_index(bench[3] + 1, grade)
 
 
-def is_known(bench, thing):
-    """Whether the thing is a known of the bench."""
+def are_answers(bench, thing):
+    """Whether the thing is an ascending tuple of answers, at most one for a point."""
     if not isinstance(thing, tuple) or not all([is_answer(bench, answer) for answer in thing]):
         return False
-    if not all([one[0] < other[0] for one, other in zip(thing, thing[1:])]):
+    return are_ascending([point for point, _ in thing])
+
+
+def is_known(bench, thing):
+    """Whether the thing is a known of the bench."""
+    if not are_answers(bench, thing):
         return False
     masks = masks_of(bench)
     # Some table has the grades as soon as no two of them fall: its grades are the greatest known ones below.
-    return not any([lies_under(masks, x, y) and g > h for x, g in thing for y, h in thing])
+    return not any([g > h and lies_under(masks, x, y) for x, g in thing for y, h in thing])

@@ -13,6 +13,11 @@ def grade_at(bench, table, point):
     return table[number_of(bench, point)]
 
 
+def answers_of(bench, table):
+    """The answers with the table's grades, one for each point, ascending."""
+    return tuple(zip(points_of(bench), table))
+
+
 def earlier_pairs(bench):
     """The pair (numbers of the earlier points below, numbers of the earlier points above) of each point."""
     points = points_of(bench)
