@@ -1,12 +1,18 @@
-"""Every example of the document up to stage 7, as it stands there."""
+"""Every example of the document up to stage 15, as it stands there."""
 
 from stubbornest.benches import points_of
 from stubbornest.benchkinds import is_bench
+from stubbornest.claims import claim_price
 from stubbornest.errors import BenchError
 from stubbornest.layers import layers_of, weight_of, window_of
 from stubbornest.listings import names_of
 from stubbornest.members import members_of
+from stubbornest.plancourses import longest_course
+from stubbornest.prices import least_number
+from stubbornest.rims import rim_of
+from stubbornest.tablechecker import lets_paper
 from stubbornest.tablekinds import is_table
+from stubbornest.tablepapers import table_paper
 from stubbornest.tables import tables_of
 from tests.cases import Case
 from tests.samples import MIX, TWO, WARN
@@ -99,13 +105,131 @@ raises InvalidPaper(word='lacking', at=2)
 raises NotUsable(word='grade', at=-1)
 >>> stacked(WARN, ((0, 1, 1, 1), (0, 0, 0, 1)))
 (0, 1, 1, 2)
+>>> from stubbornest.rims import raisable, lowerable, rim_on
+>>> (raisable(TWO, (0, 1, 1, 1)), lowerable(TWO, (0, 1, 1, 1)))
+(((0, 0),), ((0, 1), (1, 0)))
+>>> rim_on(TWO, (0, 1, 1, 1), ((0, 0), (0, 0)))
+((0, 0), (1, 0))
+>>> from stubbornest.lists import upper_list, by_upper
+>>> upper_list(WARN, (0, 1, 1, 2))
+(((0, 0), 0), ((0, 1), 1), ((1, 0), 1))
+>>> by_upper(WARN, (((0, 1), 0), ((1, 0), 1)))
+(0, 0, 1, 2)
+>>> from stubbornest.knowns import ceiling_of, open_for
+>>> ceiling_of(WARN, (((0, 1), 1),))
+(1, 1, 2, 2)
+>>> open_for(WARN, (((0, 1), 1),), 2)
+((1, 0), (1, 1))
+>>> from stubbornest.stubborn import stubborn_table, changed
+>>> [stubborn_table(WARN), stubborn_table(MIX)]
+[(0, 1, 1, 1), (0, 0, 0, 1, 1, 1)]
+>>> changed(TWO, (0, 1, 1, 1), (0, 1))
+(0, 0, 1, 1)
+>>> from stubbornest.tablepapers import table_paper
+>>> table_paper(TWO, (0, 0, 0, 1))
+((((0, 1), 0), ((1, 0), 0), ((1, 1), 1)), (0, 0, 0, 1))
+>>> from stubbornest.tablechecker import lets_paper
+>>> lets_paper(TWO, ((((0, 1), 0), ((1, 1), 1)), (0, 0, 0, 1)))
+raises InvalidPaper(word='lacking', at=2)
+>>> from stubbornest.facetables import filled_out
+>>> filled_out(((PICK, SWITCH), 0, 3, 1), 0, 2, (0, 1))
+(0, 0, 0, 0, 0, 1, 0, 0, 1, 1)
+>>> from stubbornest.tableclasses import Table
+>>> one = Table(TWO, (0, 1, 1, 1))
+>>> one.change((0, 1))
+>>> (one.grades(), one.rim(), list(one & Table(TWO, (0, 1, 0, 1)))[3])
+((0, 0, 1, 1), ((0, 1), (1, 0)), ((1, 1), 1))
+>>> from stubbornest.turns import stretch, wanted
+>>> wanted(MIX, (((0, 1), 1),))
+(((0, 0), (0, 0)), 1)
+>>> stretch(MIX, (((0, 1), 1),), ((0, 0), (0, 0)), 1)
+((0, 0), (1, 0), (2, 0))
+>>> stretch(TWO, (), ((0, 0), (0, 1)), 0)
+raises NotUsable(word='grade', at=-1)
+>>> from stubbornest.nexttests import next_test
+>>> next_test(MIX, ())
+(1, 1)
+>>> next_test(MIX, (((0, 1), 1),))
+(1, 0)
+>>> from stubbornest.bounds import at_most
+>>> at_most(MIX, ()), at_most(MIX, (((0, 1), 1),))
+(4, 2)
+>>> from stubbornest.plancourses import course_from, plan_course
+>>> plan_course(TWO, (0, 1, 1, 1))
+(((0, 1), 1), ((1, 0), 1), ((0, 0), 0))
+>>> course_from(TWO, (((1, 0), 1),), (0, 1, 1, 1))
+(((0, 1), 1), ((0, 0), 0))
+>>> course_from(TWO, (((1, 0), 0),), (0, 1, 1, 1))
+raises NotUsable(word='table', at=-1)
+>>> from stubbornest.plancourses import longest_course
+>>> longest_course(MIX)
+4
+>>> from stubbornest.rounds import next_round, rounds_of
+>>> next_round(MIX, ())
+((0, 1), (1, 1))
+>>> rounds_of(TWO, (0, 0, 0, 1))
+((((0, 1), 0),), (((1, 0), 0), ((1, 1), 1)))
+>>> from stubbornest.rounds import rounds_bound
+>>> rounds_bound(TWO), rounds_bound(MIX)
+(2, 3)
+>>> from stubbornest.sequences import course_by, shown_after
+>>> course_by(TWO, (0, 0, 0, 1), ((0, 1), (0, 0), (1, 1), (0, 1)))
+(((0, 1), 0), ((1, 1), 1))
+>>> shown_after(TWO, (0, 0, 0, 1), ((0, 1), (0, 1), (1, 1), (1, 0), (0, 0)))
+4
+>>> from stubbornest.coursechecker import lets_course
+>>> lets_course(TWO, ((((0, 1), 0), ((0, 0), 0)), (0, 0, 0, 1)))
+raises InvalidPaper(word='idle', at=1)
+>>> from stubbornest.openings import open_counts
+>>> open_counts(WARN, (((0, 1), 1),), ((0, 0), (0, 0)))
+(2, 2)
+>>> from stubbornest.searchclasses import Search
+>>> search = Search(TWO)
+>>> search.tell((1, 0), 1)
+>>> search.next(), search.left(), search.ceiling()
+((0, 1), 2, (1, 1, 1, 1))
+>>> search.tell((1, 1), 1)
+raises NotUsable(word='point', at=-1)
+>>> from stubbornest.prices import least_number, price_span
+>>> price_span(TWO, ("yes", 1)), price_span(MIX, ("yes", 1))
+((5, 5), (6, 7))
+>>> least_number(((SWITCH, SWITCH), 0, 1, 1), ("yes", 1))
+raises Apart(least=4, most=5)
+>>> from stubbornest.claims import claim_price
+>>> claim_price(TWO, ("yes", 1), (0, 1, 1, 1)), claim_price(TWO, ("yes", 1), (1, 1, 1, 1))
+(4, 2)
+>>> from stubbornest.following import follow
+>>> follow(TWO, ("all", 1), (0, 0, 1))
+(((0, 1), (0, 1), (1, 1)), (((0, 1), 0),), 1, (1, 1))
+>>> follow(TWO, ("low", 0), (1, 0, 0))
+raises NotUsable(word='grades', at=2)
+>>> from stubbornest.worsts import settled_course, worst_told
+>>> settled_course(MIX, ("yes", 1), (0, 1, 0, 1, 1, 1))
+(((1, 1), 1), ((0, 1), 1), ((2, 0), 1), ((1, 0), 0))
+>>> worst_told(MIX, ("yes", 1)), worst_told(MIX, ("all", 1))
+(6, 9)
+>>> from stubbornest.telling import told_grades
+>>> told_grades(TWO, ("all", 1), (0, 1, 1, 1), ((1, 0),))
+(1, 0, 1, 1, 0)
+>>> from stubbornest.judging import judge
+>>> judge(TWO, ("all", 1), (0, 1, 1, 1), (1, 1, 1))
+(((0, 1), (0, 1), (1, 0)), (1, 0), None)
+>>> from stubbornest.mostcosts import most_for
+>>> most_for(TWO, ("all", 1), (((0, 1), 0),), 1), most_for(TWO, ("yes", 1), (((0, 1), 0),), 1)
+(5, 3)
+>>> from stubbornest.finderclasses import Finder
+>>> finder = Finder(TWO, ("yes", 1))
+>>> finder.tell(1)
+>>> finder.next(), finder.known(), finder.most()
+((1, 0), (((0, 1), 1),), 3)
 """
 
 
 def told(line, names):
     """What the document would show below the line."""
     try:
-        return repr(eval(line, names))
+        value = eval(line, names)
+        return "" if value is None else repr(value)
     except SyntaxError:
         exec(line, names)
         return ""
@@ -118,7 +242,7 @@ class Examples(Case):
     def test_examples(self):
         names = {}
         parts = EXAMPLES.split(">>> ")[1:]
-        self.assertEqual(len(parts), 57)
+        self.assertEqual(len(parts), 132)
         for part in parts:
             line, _, wanted = part.partition("\n")
             self.assertEqual(told(line, names), wanted.strip(), line)
@@ -137,3 +261,8 @@ class Examples(Case):
         self.same(layers_of(MIX), (1, 2, 2, 1))
         self.same(weight_of(MIX), 4)
         self.same(len(list(tables_of(MIX))), 10)
+        self.same(rim_of(TWO, (0, 1, 1, 1)), ((0, 0), (0, 1), (1, 0)))
+        self.same(lets_paper(TWO, table_paper(TWO, (0, 1, 1, 1))), 3)
+        self.same(claim_price(TWO, ("all", 1), (0, 1, 1, 1)), 7)
+        self.same(least_number(TWO, ("all", 1)), 7)
+        self.same((least_number(MIX, ("all", 0)), longest_course(MIX)), (4, 4))

@@ -52,6 +52,40 @@ FUNCTIONS = {
         "rank_table(bench, grades)", "turned_table(bench, table)",
     ),
     "thresholds": ("threshold_table(bench, table, grade)", "stacked(bench, thresholds)"),
+    "rims": ("raisable(bench, table)", "lowerable(bench, table)", "rim_of(bench, table)", "rim_on(bench, table, name)"),
+    "lists": (
+        "upper_list(bench, table)", "lower_list(bench, table)", "is_upper_list(bench, thing)",
+        "is_lower_list(bench, thing)", "by_upper(bench, answers)", "by_lower(bench, answers)",
+    ),
+    "knowns": (
+        "floor_of(bench, known)", "ceiling_of(bench, known)", "unsettled_points(bench, known)",
+        "open_for(bench, known, grade)", "known_of(bench, table, points)",
+    ),
+    "stubborn": ("stubborn_table(bench)", "changed(bench, table, point)"),
+    "tablepapers": ("table_paper(bench, table)", "second_table(bench, table, points)"),
+    "tablechecker": ("lets_paper(bench, thing)",),
+    "facetables": ("face_table(bench, slot, level, table)", "filled_out(bench, slot, level, table)"),
+    "turns": ("chain_due(bench, known)", "stretch(bench, known, name, grade)", "wanted(bench, known)"),
+    "nexttests": ("next_test(bench, known)",),
+    "bounds": ("at_most(bench, known)",),
+    "plancourses": ("plan_course(bench, table)", "course_from(bench, known, table)", "longest_course(bench)"),
+    "rounds": ("next_round(bench, known)", "rounds_of(bench, table)", "rounds_bound(bench)"),
+    "sequences": ("course_by(bench, table, points)", "shown_after(bench, table, points)"),
+    "coursepapers": ("course_paper(bench, table)",),
+    "coursechecker": ("lets_course(bench, thing)",),
+    "openings": ("open_counts(bench, known, name)",),
+    "prices": ("price_span(bench, rule)", "least_number(bench, rule)", "upper_first(bench, rule)"),
+    "claims": ("claim_price(bench, rule, table)",),
+    "fixed": (
+        "fixed_number(rule)", "fixed_price(bench, rule)", "decides(bench, rule, counts)",
+        "undecided(bench, rule, counts)",
+    ),
+    "settling": ("left_grades(rule, still, least, most, grades)", "off_by(rule, settled, grades)"),
+    "following": ("next_under(bench, rule, known)", "follow(bench, rule, grades)"),
+    "worsts": ("settled_course(bench, rule, table)", "worst_told(bench, rule)"),
+    "telling": ("told_grades(bench, rule, table, wrongs)", "follow_table(bench, rule, table, wrongs)"),
+    "judging": ("judge(bench, rule, table, grades)",),
+    "mostcosts": ("most_for(bench, rule, known, still)",),
 }
 
 GENERATORS = ("chains_of", "tables_of")
@@ -65,6 +99,19 @@ CLASSES = {
         "__init__(self, bench, name)", "__len__(self)", "__contains__(self, thing)", "__eq__(self, other)",
         "members(self)", "within(self)", "up(self, point)", "down(self, point)", "number(self)", "following(self)",
         "partners(self, place)", "run(self)",
+    ),
+    ("tableclasses", "Table"): (
+        "__init__(self, bench, table)", "__iter__(self)", "__eq__(self, other)", "__and__(self, other)",
+        "__or__(self, other)", "grades(self)", "grade_of(self, point)", "rim(self)", "paper(self)",
+        "change(self, point)", "face(self, slot, level)", "upside_down(self)",
+    ),
+    ("searchclasses", "Search"): (
+        "__init__(self, bench)", "__eq__(self, other)", "next(self)", "tell(self, point, grade)", "undo(self)",
+        "told(self)", "known(self)", "floor(self)", "ceiling(self)", "left(self)", "found(self)",
+    ),
+    ("finderclasses", "Finder"): (
+        "__init__(self, bench, rule)", "__len__(self)", "__iter__(self)", "__eq__(self, other)", "next(self)",
+        "tell(self, grade)", "told(self)", "undo(self)", "known(self)", "still(self)", "found(self)", "most(self)",
     ),
 }
 

@@ -1,6 +1,6 @@
 """Those rules of the language subset that a script can see, held by every file of the package.
 
-Where the package does without something that a rule allows within limits (sets, stars, generator
+Where the package does without something that a rule allows within limits (stored sets, stars, generator
 expressions, `+=`), the tests bar it altogether: whoever needs it first extends the test by the rule.
 """
 
@@ -27,12 +27,14 @@ NODES = set("""
 
 # L8, without what the package does not need.
 BUILTINS = set("""
-    len range enumerate zip min max sum abs sorted reversed int str bool list tuple dict isinstance any all divmod iter
-    ValueError True False None
+    len range enumerate zip min max sum abs sorted reversed int str bool list tuple dict set isinstance any all divmod
+    iter ValueError True False None
 """.split())
 
 # L5
-DOUBLE = {"__init__", "__eq__", "__repr__", "__str__", "__len__", "__call__", "__iter__", "__contains__"}
+DOUBLE = {
+    "__init__", "__eq__", "__repr__", "__str__", "__len__", "__call__", "__iter__", "__contains__", "__and__", "__or__",
+}
 
 # L25, without what changes a list in place by sorting.
 METHODS = set("""
@@ -42,6 +44,7 @@ METHODS = set("""
 """.split())
 
 # L26
+CHANGING = set("append clear extend insert pop remove reverse setdefault update".split())
 BARRED_ATTRIBUTES = set("""
     items keys values pop update append clear extend insert remove reverse setdefault sort args encode decode hex fromhex
     format format_map mro as_integer_ratio bit_count conjugate from_bytes is_integer to_bytes
@@ -221,7 +224,9 @@ class Words(unittest.TestCase):
                 docstring = token.string.startswith('"""') and before in (None, tokenize.INDENT, tokenize.NEWLINE)
                 if token.type in (tokenize.NAME, tokenize.STRING) and not docstring:
                     words = set(re.findall(r"[A-Za-z_]+", token.string))
-                    self.assertEqual(words & (NO_WORDS | NOWHERE), set(), (name, token.start))
+                    # What L17 bars as names alone may stand in strings: the document has an entry "open".
+                    barred = NO_WORDS | NOWHERE if token.type == tokenize.NAME else NO_WORDS
+                    self.assertEqual(words & barred, set(), (name, token.start))
                     self.assertNotRegex(token.string, "dataclass|overload|contextmanager|_wall|_WallAttr")
                 if token.type not in (tokenize.NL, tokenize.COMMENT, tokenize.DEDENT):
                     before = token.type
@@ -261,7 +266,9 @@ class Classes(unittest.TestCase):
             if node.name == "__init__":
                 self.assertEqual(returns, [])
             elif node.name == "__len__":
+                # L28: a class with a length is iterated over, so this is no len(range(..)).
                 self.assertEqual([value.func.id for value in returns], ["len"])
+                self.assertNotRegex(ast.unparse(node), r"len\(range\(")
             elif node.name == "__iter__":
                 self.assertEqual(len(node.body), 1)
                 self.assertRegex(ast.unparse(node.body[0]), r"\Areturn iter\(self\.\w+\)\Z")
@@ -269,8 +276,16 @@ class Classes(unittest.TestCase):
     def test_attributes(self):
         stored = {node.attr for _, node in all_nodes(ast.Attribute) if isinstance(node.ctx, ast.Store)}
         self.assertEqual(stored & BARRED_ATTRIBUTES, set())
-        self.assertEqual(stored & own_methods(), set())
+        for _, node in all_nodes(ast.ClassDef):
+            told = [item for item in ast.walk(node) if isinstance(item, ast.Attribute)]
+            mine = {item.attr for item in told if isinstance(item.ctx, ast.Store)}
+            self.assertEqual(mine & {getattr(item, "name", "") for item in node.body}, set())
+        # L18: a name that is a method of one class and an attribute of another one is not called.
+        called = {node.func.attr for _, node in all_nodes(ast.Call) if isinstance(node.func, ast.Attribute)}
+        self.assertEqual(stored & own_methods() & called, set())
+        classes = {node.name for _, node in all_nodes(ast.ClassDef)}
         for name, node in all_nodes(ast.Attribute):
+            self.assertNotIn(ast.unparse(node.value), classes, (name, node.lineno))
             self.assertIsInstance(node.value, (ast.Name, ast.Constant, ast.Call, ast.Attribute, ast.Subscript))
             self.assertIn(node.attr, stored | own_methods() | METHODS, (name, node.lineno))
             if isinstance(node.ctx, ast.Store):
@@ -279,6 +294,58 @@ class Classes(unittest.TestCase):
     def test_objects_are_iterated_or_measured_without_products(self):
         # L2: a class that is iterated over and has a length bars product, combinations and permutations.
         self.assertFalse([node for _, node in all_nodes(ast.ImportFrom) if node.module.startswith("itertools")])
+
+
+class Operators(unittest.TestCase):
+    """L5: operators, `__eq__` and `__len__` change nothing but lists and dicts of their own, nor does what they call."""
+
+    def reached(self):
+        """The functions and methods that the operators may call, themselves too, with their names."""
+        bodies = {}
+        for name, node in all_nodes(ast.FunctionDef):
+            bodies.setdefault(node.name, []).append(node)
+        for name, node in all_nodes(ast.ClassDef):
+            bodies[node.name] = [item for item in node.body if getattr(item, "name", "") == "__init__"]
+        found, waiting = {}, [name for name in bodies if name in DOUBLE - {"__init__", "__iter__", "__call__"}]
+        while waiting:
+            name = waiting.pop()
+            if name not in found:
+                found[name] = bodies[name]
+                for call in [item for body in bodies[name] for item in ast.walk(body) if isinstance(item, ast.Call)]:
+                    word = call.func.id if isinstance(call.func, ast.Name) else call.func.attr
+                    if word in bodies:
+                        waiting.append(word)
+        return [(name, body) for name, rows in found.items() for body in rows]
+
+    def own_names(self, function):
+        """The local names that are only ever assigned new lists and dicts."""
+        values = {}
+        for node in ast.walk(function):
+            if isinstance(node, ast.Assign):
+                for target in node.targets:
+                    for word in stored_names(target):
+                        values.setdefault(word, []).append(node.value if isinstance(target, ast.Name) else None)
+            if isinstance(node, (ast.For, ast.comprehension)):
+                for word in stored_names(node.target):
+                    values.setdefault(word, []).append(None)
+        return {word for word, rows in values.items() if all(is_new(value) for value in rows)} - set(parameters(function))
+
+    def test_they_change_nothing(self):
+        names = {name for name, _ in self.reached()}
+        self.assertLessEqual({"__and__", "__or__", "__contains__", "__eq__", "__len__", "is_table", "walk"}, names)
+        for name, function in self.reached():
+            own = self.own_names(function)
+            for node in ast.walk(function):
+                self.assertNotIsInstance(node, (ast.Yield, ast.AugAssign, ast.Lambda), name)
+                if isinstance(node, ast.Attribute) and isinstance(node.ctx, ast.Store):
+                    self.assertEqual((function.name, ast.unparse(node.value)), ("__init__", "self"))
+                if isinstance(node, ast.Subscript) and isinstance(node.ctx, ast.Store):
+                    self.assertIn(ast.unparse(node.value), own, name)
+                if isinstance(node, ast.Call) and isinstance(node.func, ast.Attribute) and node.func.attr in CHANGING:
+                    # Lists in a list of its own that it made itself count, too.
+                    changed = node.func.value
+                    changed = changed.value if isinstance(changed, ast.Subscript) else changed
+                    self.assertIn(ast.unparse(changed), own, name)
 
 
 class Errors(unittest.TestCase):
@@ -331,6 +398,14 @@ class Expressions(unittest.TestCase):
         # L25: no .sort() where a class has __eq__ or __len__.
         self.assertEqual([node for _, node in all_nodes(ast.Attribute) if node.attr == "sort"], [])
 
+    def test_sets_are_sorted_at_once(self):
+        for name, tree in TREES.items():
+            above = parents(tree)
+            for node in ast.walk(tree):
+                if isinstance(node, ast.Name) and node.id == "set":
+                    outer = above[above[node]]
+                    self.assertEqual((ast.unparse(outer.func), len(outer.args), outer.keywords), ("sorted", 1, []), name)
+
     def test_iterated_at_once(self):
         for name, tree in TREES.items():
             above = parents(tree)
@@ -354,6 +429,15 @@ class Expressions(unittest.TestCase):
                 if isinstance(node, ast.Name) and node.id in generators:
                     self.assertIs(above[node].func, node, name)
                     self.assertTrue(is_taken(above[node], above), name)
+
+
+def is_new(value):
+    """Whether the value is a list or a dict that is made here."""
+    if isinstance(value, (ast.List, ast.ListComp, ast.Dict, ast.DictComp)):
+        return True
+    if isinstance(value, ast.BinOp) and isinstance(value.op, ast.Mult):
+        return isinstance(value.left, ast.List)
+    return isinstance(value, ast.Call) and ast.unparse(value.func) in ("list", "dict", "sorted")
 
 
 def is_taken(node, above):
