@@ -1,14 +1,11 @@
 """How many points each grade is open at, on a chain."""
 
 from stubbornest.knowns import known_bounds
-from stubbornest.refusals import require
 from stubbornest.turns import open_on, row_on
-from stubbornest.walks import is_name
 
 
 def open_counts(bench, known, name):
     """The lengths of the stretches of the grades 1 to top on the chain with this name."""
     bounds = known_bounds(bench, known)
-    require(is_name(bench, name), "name")
     row = row_on(bench, name)
     return tuple([len(open_on(bounds, row, grade)) for grade in range(1, bench[3] + 1)])

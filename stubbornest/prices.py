@@ -23,7 +23,7 @@ def upper_price(bench, wrongs):
 
 def layers_price(bench, wrongs):
     """How many answers two successive layers, or the last one, ask for under "yes"."""
-    _, low, high, _ = bench
+    low, high = bench[1:3]
     layers = layers_of(bench)
     pairs = [(wrongs + 1) * layers[rank] + layers[rank + 1] for rank in range(low, high)]
     return max(pairs + [(wrongs + 1) * layers[high]])

@@ -4,7 +4,6 @@ from stubbornest.benches import direct_pairs, points_of
 from stubbornest.listings import points_on
 from stubbornest.refusals import require
 from stubbornest.tablekinds import is_table
-from stubbornest.walks import is_name
 
 
 def movable(bench, table):
@@ -52,6 +51,5 @@ def rim_of(bench, table):
 def rim_on(bench, table, name):
     """The set of the points of the rim on the chain with this name."""
     rim = rim_of(bench, table)
-    require(is_name(bench, name), "name")
     row = points_on(bench, name)
     return tuple([point for point in rim if point in row])

@@ -4,7 +4,6 @@ from stubbornest.benches import points_of, sides_of
 from stubbornest.knowns import is_threshold, known_bounds
 from stubbornest.listings import chains_of, names_by_size, points_on
 from stubbornest.refusals import require
-from stubbornest.walks import is_name
 
 
 def rows_of(bench):
@@ -80,7 +79,7 @@ def row_on(bench, name):
 def stretch(bench, known, name, grade):
     """The points of the bench on the chain at which the grade is open, upward."""
     bounds = known_bounds(bench, known)
-    require(is_name(bench, name), "name")
+    row = row_on(bench, name)
     require(is_threshold(bench, grade), "grade")
     points = points_of(bench)
-    return tuple([points[number] for number in open_on(bounds, row_on(bench, name), grade)])
+    return tuple([points[number] for number in open_on(bounds, row, grade)])
