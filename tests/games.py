@@ -48,5 +48,9 @@ class Game:
     def least_number(self):
         return self.least(self.start())
 
-    def claim(self, table):
-        return self.least(self.start(), table)
+    def claim(self, table, log=()):
+        """The price of the claim; behind a log how many further tests it needs."""
+        state = self.start()
+        for point, grade in log:
+            state = self.behind(state, self.world.at[point], grade)
+        return self.least(state, table)

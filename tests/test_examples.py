@@ -222,6 +222,76 @@ raises NotUsable(word='grades', at=2)
 >>> finder.tell(1)
 >>> finder.next(), finder.known(), finder.most()
 ((1, 0), (((0, 1), 1),), 3)
+>>> from stubbornest.logs import fits, counts_at
+>>> fits(TWO, ("low", 1), (((0, 1), 0), ((1, 1), 1)), (0, 1, 1, 1))
+True
+>>> counts_at(WARN, (((0, 1), 2), ((0, 1), 2), ((0, 1), 0)), (0, 1))
+(1, 0, 2)
+>>> from stubbornest.pointwise import grades_left
+>>> grades_left(WARN, ("each", 1), (((0, 1), 0), ((0, 1), 2)), (0, 1))
+(0, 2)
+>>> from stubbornest.pointwise import least_fit, greatest_fit
+>>> told = (((0, 0), 1), ((0, 0), 1), ((0, 1), 0), ((0, 1), 2))
+>>> least_fit(WARN, ("each", 1), told), greatest_fit(WARN, ("each", 1), told)
+((1, 2, 1, 2), (1, 2, 2, 2))
+>>> greatest_fit(TWO, ("yes", 0), ())
+raises NotUsable(word='rule', at=-1)
+>>> from stubbornest.testers import joined_fits
+>>> joined_fits(TWO, ((("low", 0), (((0, 1), 1),)), (("each", 0), (((0, 0), 0),))))
+((0, 1, 0, 1), (0, 1, 1, 1))
+>>> from stubbornest.falling import falls, fewest_wrong
+>>> falls(TWO, ((0, 1), 1), ((0, 1), 0))
+True
+>>> fewest_wrong(TWO, (((0, 0), 1), ((0, 1), 0), ((1, 0), 0)))
+1
+>>> from stubbornest.fallingchecker import lets_falling
+>>> told = (((0, 0), 1), ((0, 1), 0), ((1, 0), 0))
+>>> lets_falling(TWO, told, ((0, 2), (1,)))
+1
+>>> lets_falling(TWO, told, ((0, 1), (1,)))
+raises InvalidPaper(word='twice', at=(1, 0))
+>>> from stubbornest.mildest import mild_tables
+>>> mild_tables(TWO, (((0, 0), 1), ((0, 1), 0)))
+(1, (0, 0, 0, 0), (1, 1, 1, 1))
+>>> from stubbornest.possible import possible_at, sure_points
+>>> possible_at(TWO, ("all", 1), (((1, 1), 0),), (0, 0))
+(0, 1)
+>>> sure_points(TWO, ("yes", 1), (((1, 0), 1),))
+(((1, 0), 1), ((1, 1), 1))
+>>> from stubbornest.possible import shown_table, beside_fit
+>>> shown_table(TWO, ("all", 0), (((0, 1), 0), ((1, 0), 0), ((1, 1), 1)))
+(0, 0, 0, 1)
+>>> beside_fit(TWO, ("low", 0), (((0, 1), 0), ((1, 0), 0)), (0, 0, 0, 0))
+(0, 0, 0, 1)
+>>> from stubbornest.lackings import lacking
+>>> one, f = (((0, 0), 0),), (0, 1, 1, 1)
+>>> lacking(TWO, ("all", 1), one, f), lacking(TWO, ("yes", 1), one, f)
+(6, 3)
+>>> lacking(TWO, ("each", 2), (((0, 0), 0), ((1, 1), 0)), f)
+raises NotUsable(word='log', at=1)
+>>> from stubbornest.logclasses import Log
+>>> one = Log(TWO, ("each", 0))
+>>> one.add((0, 1), 1)
+>>> one.add((1, 0), 0)
+>>> one.shown()
+(0, 1, 0, 1)
+>>> from stubbornest.hards import step_table, hard_table
+>>> step_table(WARN, 0), hard_table(TWO, ("yes", 1))
+((0, 2, 2, 2), (0, 0, 0, 1))
+>>> from stubbornest.answering import answers_to, two_left
+>>> asked = ((0, 0), (0, 0), (0, 1), (0, 1), (1, 0), (1, 0))
+>>> answers_to(TWO, ("all", 1), (0, 1, 1, 1), asked)[3:]
+(((0, 1), 1), ((1, 0), 1), ((1, 0), 0))
+>>> two_left(TWO, ("all", 1), (0, 1, 1, 1), asked)
+((0, 1, 0, 1), (0, 1, 1, 1))
+>>> answers_to(TWO, ("low", 1), (0, 1, 1, 1), ((0, 1), (0, 0), (0, 1)))
+(((0, 1), 0), ((0, 0), 0), ((0, 1), 1))
+>>> from stubbornest.trees import ends_of, end_by
+>>> tree = ("ask", (0, 1), (("is", (0, 0, 0, 1)), None))
+>>> list(ends_of(TWO, tree))
+[((((0, 1), 0),), (0, 0, 0, 1)), ((((0, 1), 1),), None)]
+>>> end_by(TWO, tree, (1, 1, 1, 1))
+((((0, 1), 1),), None)
 """
 
 
@@ -242,7 +312,7 @@ class Examples(Case):
     def test_examples(self):
         names = {}
         parts = EXAMPLES.split(">>> ")[1:]
-        self.assertEqual(len(parts), 132)
+        self.assertEqual(len(parts), 178)
         for part in parts:
             line, _, wanted = part.partition("\n")
             self.assertEqual(told(line, names), wanted.strip(), line)

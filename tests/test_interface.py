@@ -86,9 +86,25 @@ FUNCTIONS = {
     "telling": ("told_grades(bench, rule, table, wrongs)", "follow_table(bench, rule, table, wrongs)"),
     "judging": ("judge(bench, rule, table, grades)",),
     "mostcosts": ("most_for(bench, rule, known, still)",),
+    "logkinds": ("is_log(bench, thing)",),
+    "logs": ("wrong_in(bench, log, table)", "fits(bench, rule, log, table)", "counts_at(bench, log, point)"),
+    "pointwise": ("grades_left(bench, rule, log, point)", "least_fit(bench, rule, log)", "greatest_fit(bench, rule, log)"),
+    "testers": ("joined_fits(bench, testers)",),
+    "falling": ("falls(bench, one, other)", "fewest_wrong(bench, log)", "falling_rows(bench, log)"),
+    "fallingchecker": ("lets_falling(bench, log, thing)",),
+    "mildest": ("mild_tables(bench, log)",),
+    "possible": (
+        "possible_at(bench, rule, log, point)", "sure_points(bench, rule, log)", "shown_table(bench, rule, log)",
+        "two_fits(bench, rule, log)", "beside_fit(bench, rule, log, table)",
+    ),
+    "lackings": ("lacking_points(bench, rule, log, table)", "lacking(bench, rule, log, table)"),
+    "hards": ("step_table(bench, rank)", "hard_table(bench, rule)"),
+    "answering": ("answers_to(bench, rule, table, points)", "two_left(bench, rule, table, points)"),
+    "treekinds": ("is_tree(bench, thing)",),
+    "trees": ("ends_of(bench, tree)", "end_by(bench, tree, table)"),
 }
 
-GENERATORS = ("chains_of", "tables_of")
+GENERATORS = ("chains_of", "tables_of", "ends_of")
 
 CLASSES = {
     ("benchclasses", "Bench"): (
@@ -112,6 +128,11 @@ CLASSES = {
     ("finderclasses", "Finder"): (
         "__init__(self, bench, rule)", "__len__(self)", "__iter__(self)", "__eq__(self, other)", "next(self)",
         "tell(self, grade)", "told(self)", "undo(self)", "known(self)", "still(self)", "found(self)", "most(self)",
+    ),
+    ("logclasses", "Log"): (
+        "__init__(self, bench, rule)", "__len__(self)", "__iter__(self)", "__eq__(self, other)", "add(self, point, grade)",
+        "drop(self, index)", "answers(self)", "possible(self, point)", "sure(self)", "shown(self)", "two(self)",
+        "fewest(self)",
     ),
 }
 

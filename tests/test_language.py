@@ -21,7 +21,7 @@ NODES = set("""
     Module Expr ImportFrom alias FunctionDef arguments arg Return ClassDef Assign For While If Raise Try ExceptHandler
     Break Continue Pass Yield
     Constant Name Attribute Subscript Slice Tuple List Dict Call keyword Starred Load Store
-    BinOp UnaryOp BoolOp Compare IfExp And Or Not USub Add Sub Mult FloorDiv Mod LShift RShift BitAnd BitOr
+    BinOp UnaryOp BoolOp Compare IfExp And Or Not USub Add Sub Mult FloorDiv Mod LShift RShift BitAnd BitOr BitXor
     Eq NotEq Lt LtE Gt GtE Is IsNot In NotIn ListComp DictComp comprehension Lambda
 """.split())
 

@@ -204,6 +204,50 @@ class World:
     def fitting(self, rule, log):
         return [table for table in self.tables if self.fits(rule, log, table)]
 
+    def wrong(self, log, table):
+        """The indices of the answers that are wrong for the table."""
+        return [index for index, (point, grade) in enumerate(log) if table[self.at[point]] != grade]
+
+    def fewest(self, log):
+        return min(len(self.wrong(log, table)) for table in self.tables)
+
+    def falls(self, one, other):
+        at, above = self.at[one[0]], self.at[other[0]]
+        return one[1] > other[1] and (at == above or at in self.below[above])
+
+    def possible(self, tables):
+        """The sets of the grades that these tables have at each point."""
+        return [tuple(sorted({table[at] for table in tables})) for at in range(len(self.points))]
+
+    def some_log(self, rng, many, share=0.7):
+        """A log with so many answers, of which about this share are those of one table."""
+        table = rng.choice(self.tables)
+        log = []
+        for _ in range(many):
+            at = rng.randrange(len(self.points))
+            log.append((self.points[at], table[at] if rng.random() < share else rng.randint(0, self.top)))
+        return tuple(log)
+
+    def some_logs(self, rng, many, longest):
+        """So many logs, () among them, with answers of no table at all and of one table alone."""
+        shares = (1, 0.9, 0.7, 0)
+        return [()] + [self.some_log(rng, rng.randint(1, longest), shares[i % 4]) for i in range(many - 1)]
+
+    def facts(self, table):
+        """For each number in the rim whether it is raisable, and the other grade there."""
+        rising = self.raisable(table)
+        return {at: (at in rising, table[at] + (1 if at in rising else -1)) for at in sorted(self.rim(table))}
+
+    def short(self, rule, table, log):
+        """The numbers of the points that lack, by how many answers there have the table's grade."""
+        word, e = rule
+        lacking = []
+        for at, (rises, _) in self.facts(table).items():
+            right = len([1 for point, grade in log if point == self.points[at] and grade == table[at]])
+            if right <= e if word in ("all", "each") or rises else right == 0:
+                lacking.append(at)
+        return lacking
+
     def stand(self, rule, grades):
         """The state of follow behind the grades; the index of the first grade that cannot come if there is one."""
         key = rule, grades
