@@ -17,7 +17,7 @@ from stubbornest.tables import tables_of
 from tests.cases import Case
 from tests.samples import MIX, TWO, WARN
 
-EXAMPLES = """
+EXAMPLES = r"""
 >>> SWITCH = (((), (0,)), ((0, 1),))
 >>> DIAL = (((), (0,), (1,)), ((0, 1, 2),))
 >>> PICK = (((), (0,), (0,), (0,), (1, 2, 3)), ((0, 1, 4), (2,), (3,)))
@@ -292,6 +292,54 @@ raises NotUsable(word='log', at=1)
 [((((0, 1), 0),), (0, 0, 0, 1)), ((((0, 1), 1),), None)]
 >>> end_by(TWO, tree, (1, 1, 1, 1))
 ((((0, 1), 1),), None)
+>>> from stubbornest.plantrees import plan_tree
+>>> plan_tree(((SWITCH,), 0, 1, 2), ("all", 0))[2][:2]
+(('is', (0, 0)), ('ask', (0,), (('is', (0, 1)), ('is', (1, 1)), None)))
+>>> from stubbornest.treejudging import depth_of, first_wrong
+>>> POINT = ((), 0, 0, 1)
+>>> once = ("ask", (), (("is", (0,)), ("is", (1,))))
+>>> depth_of(POINT, ("all", 0), once), first_wrong(POINT, ("all", 1), once)
+(1, ((((), 0),), (0,), (1,)))
+>>> depth_of(POINT, ("all", 0), ("ask", (), (None, None)))
+-1
+>>> from stubbornest.beating import beaten
+>>> beaten(POINT, ("all", 1), (1,), once)
+((((), 1),), (1,), (0,))
+>>> from stubbornest.wrongchecker import lets_wrong
+>>> lets_wrong(POINT, ("all", 0), once, ((((), 0),), (0,), (1,)))
+raises InvalidPaper(word='fits', at=-1)
+>>> from stubbornest.games import whole_game
+>>> whole_game(((SWITCH, SWITCH), 0, 1, 1), ("yes", 1)), whole_game(((DIAL,), 0, 2, 1), ("yes", 1))
+(4, 4)
+>>> from stubbornest.answererclasses import Answerer
+>>> one = Answerer(TWO, ("yes", 1), (1, 1, 1, 1))
+>>> one.answer((0, 0)), one.lacking(), one.pair()
+(0, ((0, 0),), ((0, 1, 1, 1), (1, 1, 1, 1)))
+>>> from stubbornest.edits import log_after
+>>> log_after(MIX, (((1, 1), 1), ((0, 1), 1), ((1, 0), 0)), ("go", 0, 1))
+(((1,), 1), ((0,), 0))
+>>> from stubbornest.live import LiveBench
+>>> live = LiveBench(TWO, ("all", 0))
+>>> live.test((0, 1), 1)
+>>> live.test((1, 1), 0)
+raises InvalidEvent(event=('test', (1, 1), 0), reason='fits')
+>>> live.come(SWITCH, 0)
+>>> live.log_now(), live.sure_now()
+((((0, 1, 0), 1),), (((0, 1, 0), 1), ((0, 1, 1), 1), ((1, 1, 0), 1), ((1, 1, 1), 1)))
+>>> live.next_now(), live.span_now()
+((1, 0, 1), (6, 6))
+>>> from stubbornest.whatifs import span_after
+>>> span_after(MIX, ("all", 1), ("rule", "low", 2))
+(12, 12)
+>>> from stubbornest.eventtexts import event_line
+>>> event_line(("come", SWITCH, 1)), event_line(("test", (0, 2), 1))
+('come -;0/0,1 1', 'test 0.2 1')
+>>> from stubbornest.eventreadings import read_event
+>>> read_event('test 0.1')
+raises InvalidText(line=0, field=2)
+>>> from stubbornest.desk import desk
+>>> desk(LiveBench(TWO, ("all", 0)), 'test 0.1 1\nnext\nsure\ntest 0.0 2\nundo\nshown')
+('done', '1.0', '0.1:1 1.1:1', 'barred grade', 'test 0.1 1', 'none')
 """
 
 
@@ -312,7 +360,7 @@ class Examples(Case):
     def test_examples(self):
         names = {}
         parts = EXAMPLES.split(">>> ")[1:]
-        self.assertEqual(len(parts), 178)
+        self.assertEqual(len(parts), 211)
         for part in parts:
             line, _, wanted = part.partition("\n")
             self.assertEqual(told(line, names), wanted.strip(), line)

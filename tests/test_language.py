@@ -193,7 +193,8 @@ class Words(unittest.TestCase):
             for word in names:
                 self.assertRegex(word, r"\A(_|_?[A-Za-z][A-Za-z0-9_]*)\Z", name)
                 self.assertNotRegex(word, r"\A(_wall|_pe_|_dcw_|_enum_|_cm_|_twin_re_|_lay_|_law_|_stub_|_sre)", name)
-                self.assertNotIn(word, NOWHERE | NO_NAMES | set(dir(builtins)), name)
+                # Doctests leave a builtin "_" behind.
+                self.assertNotIn(word, NOWHERE | NO_NAMES | set(dir(builtins)) - {"_"}, name)
 
     def test_underscore_is_never_read(self):
         for name, node in all_nodes(ast.Name):
@@ -257,7 +258,11 @@ class Classes(unittest.TestCase):
         for name, node in all_nodes(ast.FunctionDef):
             self.assertEqual(node.decorator_list, [])
             told = node.args
-            self.assertFalse(told.vararg or told.kwarg or told.posonlyargs or told.kwonlyargs or told.defaults)
+            self.assertFalse(told.vararg or told.kwarg or told.posonlyargs or told.kwonlyargs)
+            # L4: default values are plain; L28 knows none for the double-underscore methods used here.
+            for value in told.defaults:
+                self.assertIn(ast.literal_eval(value).__class__, (int, str, bool, None.__class__))
+                self.assertFalse(node.name.startswith("__"), name)
             if node.name.startswith("__"):
                 self.assertIn(node.name, DOUBLE)
                 doubles.append(node)
