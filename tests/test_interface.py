@@ -102,6 +102,18 @@ FUNCTIONS = {
     "answering": ("answers_to(bench, rule, table, points)", "two_left(bench, rule, table, points)"),
     "treekinds": ("is_tree(bench, thing)",),
     "trees": ("ends_of(bench, tree)", "end_by(bench, tree, table)"),
+    "plantrees": ("plan_tree(bench, rule)",),
+    "treejudging": ("depth_of(bench, rule, tree)", "first_wrong(bench, rule, tree)", "is_right(bench, rule, tree)"),
+    "beating": ("beaten(bench, rule, table, tree)",),
+    "wrongchecker": ("lets_wrong(bench, rule, tree, thing)",),
+    "games": ("whole_game(bench, rule)",),
+    "liveevents": ("is_event(thing)", "is_diary(thing)"),
+    "edits": ("bench_after(bench, event)", "log_after(bench, log, event)"),
+    "replaying": ("replayed(bench, rule, diary)",),
+    "whatifs": ("span_after(bench, rule, event)",),
+    "eventtexts": ("event_line(event)",),
+    "eventreadings": ("read_event(text)",),
+    "desk": ("desk(live, text)",),
 }
 
 GENERATORS = ("chains_of", "tables_of", "ends_of")
@@ -133,6 +145,18 @@ CLASSES = {
         "__init__(self, bench, rule)", "__len__(self)", "__iter__(self)", "__eq__(self, other)", "add(self, point, grade)",
         "drop(self, index)", "answers(self)", "possible(self, point)", "sure(self)", "shown(self)", "two(self)",
         "fewest(self)",
+    ),
+    ("answererclasses", "Answerer"): (
+        "__init__(self, bench, rule, table)", "__len__(self)", "__iter__(self)", "__eq__(self, other)",
+        "answer(self, point)", "answers(self)", "lacking(self)", "pair(self)", "undo(self)",
+    ),
+    ("live", "LiveBench"): (
+        "__init__(self, bench, rule)", "__len__(self)", "__iter__(self)", "__eq__(self, other)", "do(self, event)",
+        "test(self, point, grade)", "come(self, chart, level)", "go(self, slot, level)", "set_rule(self, word, e)",
+        "set_range(self, low, high)", "barred(self, event)", "tried(self, event)", "undo(self)",
+        "do_all(self, events, keep=False)", "tally(self)", "diary(self)", "bench_now(self)", "rule_now(self)",
+        "log_now(self)", "span_now(self)", "possible_now(self, point)", "sure_now(self)", "shown_now(self)",
+        "next_now(self)", "lacking_now(self, table)",
     ),
 }
 
