@@ -15,7 +15,7 @@ def reason_by(bench, event):
         return "form"
     word, one, other = event
     if word == "test":
-        return test_reason(bench, one, other)
+        return answer_reason(bench, one, other)
     if word == "come":
         return None if other < len(one[0]) else "level"
     if word == "go":
@@ -25,7 +25,7 @@ def reason_by(bench, event):
     return None if one <= other <= height(bench) else "range"
 
 
-def test_reason(bench, point, grade):
+def answer_reason(bench, point, grade):
     """The reason for which a "test" is barred."""
     if not is_point(bench, point):
         return "point"

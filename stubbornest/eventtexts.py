@@ -17,7 +17,7 @@ def value_text(word, value):
         return point_text(value)
     if word == "come":
         return chart_line(value)
-    return value if word == "rule" else str(value)
+    return str(value)
 
 
 def event_line(event):

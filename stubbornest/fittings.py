@@ -38,11 +38,11 @@ class Fittings:
 
     def _mild_having(self, answer):
         """Under "all": some table that fits and for which the answer is right; None if none does."""
-        wrongs = self._rule[1]
-        if self._fewest_having(answer) > wrongs:
+        fewest = self._fewest_having(answer)
+        if fewest > self._rule[1]:
             return None
-        # So often the answer cannot be wrong.
-        return least_mild(self._bench, self._log + (answer,) * (wrongs + 1))[1]
+        # Told so often, the answer is right in every mild table.
+        return least_mild(self._bench, self._log + (answer,) * (fewest + 1))[1]
 
     def _fewest_having(self, answer):
         """How many answers of the log are wrong at least if this one is right."""

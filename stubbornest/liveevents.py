@@ -12,13 +12,13 @@ def is_event(thing):
     if not isinstance(thing, tuple) or len(thing) != 3 or not is_number(thing[2]):
         return False
     word, value = thing[:2]
-    if not isinstance(word, str) or word not in EVENT_WORDS:
-        return False
     if word == "test":
         return are_numbers(value)
     if word == "come":
         return is_chart(value)
-    return isinstance(value, str) if word == "rule" else is_number(value)
+    if word == "rule":
+        return isinstance(value, str)
+    return word in ("go", "range") and is_number(value)
 
 
 def is_diary(thing):

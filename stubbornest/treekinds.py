@@ -6,7 +6,7 @@ from stubbornest.tablekinds import is_table
 
 def is_tree(bench, thing):
     """Whether the thing is an end or an asking with all its branches."""
-    if not isinstance(thing, tuple) or not thing or not isinstance(thing[0], str):
+    if not isinstance(thing, tuple):
         return False
     if len(thing) == 2:
         return thing[0] == "is" and is_table(bench, thing[1])

@@ -11,7 +11,9 @@ from stubbornest.tables import tables_of
 from stubbornest.thresholds import threshold_table
 from tests import oracle
 from tests.cases import Case
+from tests.games import Game
 from tests.samples import SMALL, random_benches
+from tests.worlds import TINY, World
 
 FEW = [bench for bench in SMALL if (bench[3] + 1) ** len(oracle.points(bench)) <= 2000]
 
@@ -65,6 +67,16 @@ class Faces(Case):
                     self.assertLessEqual(weight_of(face), weight_of(bench))
                     self.assertLessEqual(long_weight(face), long_weight(bench))
                     self.assertLessEqual(bench_run(face), bench_run(bench))
+
+    def test_none_needs_more_tests(self):
+        for world in TINY:
+            for rule in world.rules((0, 1)):
+                if len(world.tables) <= (12, 6)[rule[1]]:
+                    number = Game(world, rule).least_number()
+                    for slot in range(len(world.bench[0])):
+                        for level in {point[slot] for point in world.points}:
+                            face = World(face_of(world.bench, slot, level))
+                            self.assertLessEqual(Game(face, rule).least_number(), number)
 
 
 class Rims(Case):
